@@ -1,0 +1,1 @@
+"""Lastwaltz: a masquerade in which no two guests exchange masks twice."""
