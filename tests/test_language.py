@@ -25,6 +25,25 @@ BANNED_FORMS = (
     ast.GeneratorExp, ast.NamedExpr, ast.Div, ast.MatMult,
 )
 
+STATEMENTS = (
+    ast.FunctionDef, ast.ClassDef, ast.Return, ast.Delete, ast.Assign, ast.AugAssign, ast.For, ast.While, ast.If,
+    ast.Raise, ast.Try, ast.Assert, ast.ImportFrom, ast.Expr, ast.Pass, ast.Break, ast.Continue,
+)
+PLAIN_VALUES = (ast.Constant, ast.List, ast.Tuple, ast.Dict, ast.Name, ast.UnaryOp, ast.BinOp)
+METHODS = set("""
+    append clear copy count endswith extend find get index insert isalnum isalpha isdigit islower isspace isupper
+    items join keys ljust lower lstrip partition pop remove replace reverse rfind rjust rpartition rsplit rstrip
+    setdefault split splitlines startswith strip update upper values zfill bit_length add discard sort
+""".split())
+CHANGING = set("append clear extend insert pop remove reverse setdefault update sort add discard".split())
+WALKED = {"zip", "enumerate", "reversed", "range"}
+WALKERS = {"list", "tuple", "dict", "sorted", "sum", "any", "all", "enumerate", "zip", "bytes", "min", "max"}
+UNUSED_NAMES = set("""
+    register mro elements open input version_info with_traceback add_note attrgetter breakpoint builtins compile
+    copyright credits delattr dir eval exec exit gc getattr globals hasattr help id importlib license locals
+    methodcaller os quit setattr super vars sys format format_map
+""".split())
+
 
 def trees():
     return [(path.name, ast.parse(path.read_text(encoding="ascii"))) for path in FILES]
@@ -43,7 +62,52 @@ def names_in(node):
     return []
 
 
+def defs_in(tree):
+    return [node for node in ast.walk(tree) if isinstance(node, ast.FunctionDef)]
+
+
+def locals_of(node):
+    """The names that a def gives: parameters, assignments, loops."""
+    given = [part.arg for part in ast.walk(node) if isinstance(part, ast.arg)]
+    stored = [part.id for part in ast.walk(node) if isinstance(part, ast.Name) and isinstance(part.ctx, ast.Store)]
+    return given + stored
+
+
+def top_names(tree):
+    """The names that a file's own top binds, an import's too, as often as it does."""
+    names = []
+    for node in tree.body:
+        if isinstance(node, (ast.FunctionDef, ast.ClassDef)):
+            names.append(node.name)
+        if isinstance(node, ast.ImportFrom):
+            names.extend(alias.asname or alias.name for alias in node.names)
+        if isinstance(node, ast.Assign):
+            names.extend(target.id for target in node.targets)
+    return names
+
+
+def imports_of(tree):
+    return [node for node in tree.body if isinstance(node, ast.ImportFrom) and node.module != "__future__"]
+
+
+def parents_in(tree):
+    return {part: node for node in ast.walk(tree) for part in ast.iter_child_nodes(node)}
+
+
+def called_name(node):
+    """The plain name that a call calls, or None."""
+    return node.func.id if isinstance(node, ast.Call) and isinstance(node.func, ast.Name) else None
+
+
+def called_method(node):
+    return node.func.attr if isinstance(node, ast.Call) and isinstance(node.func, ast.Attribute) else None
+
+
 class TestFiles(unittest.TestCase):
+
+    def test_all_modules_so_far_are_looked_at(self):
+        names = {path.stem for path in FILES}
+        self.assertLessEqual({"errors", "rows", "hall", "rings", "homeway", "chase", "morning"}, names)
 
     def test_only_plain_files(self):
         self.assertIn(PACKAGE / "__init__.py", FILES)
@@ -119,6 +183,201 @@ class TestForms(unittest.TestCase):
                 if isinstance(node, ast.Attribute) and isinstance(node.ctx, ast.Store):
                     values.add(node.attr)
         self.assertEqual(methods & values, set())
+
+
+class TestTops(unittest.TestCase):
+    """L2, L3, L15, L16."""
+
+    def test_only_what_may_stand_at_a_top(self):
+        for name, tree in trees():
+            for at, node in enumerate(tree.body):
+                if isinstance(node, ast.Expr):
+                    self.assertEqual((at, type(node.value)), (0, ast.Constant), name)
+                elif isinstance(node, ast.Assign):
+                    self.assertIsInstance(node.value, PLAIN_VALUES, name)
+                else:
+                    self.assertIsInstance(node, (ast.ImportFrom, ast.FunctionDef, ast.ClassDef), name)
+
+    def test_each_name_is_bound_once(self):
+        for name, tree in trees():
+            names = top_names(tree)
+            self.assertEqual(sorted(names), sorted(set(names)), name)
+
+    def test_classes_stand_at_the_top(self):
+        for name, tree in trees():
+            for node in ast.walk(tree):
+                if isinstance(node, ast.ClassDef):
+                    self.assertIn(node, tree.body, name)
+                    self.assertLessEqual(len(node.bases), 1, name)
+                    self.assertEqual(node.keywords, [], name)
+                    for part in node.body:
+                        docstring = isinstance(part, ast.Expr) and isinstance(part.value, ast.Constant)
+                        self.assertTrue(docstring or isinstance(part, ast.FunctionDef), (name, node.name))
+
+    def test_names_are_drawn_from_the_file_that_defines_them(self):
+        defined = {}
+        for name, tree in trees():
+            drawn = [alias.name for node in imports_of(tree) for alias in node.names]
+            defined["lastwaltz." + name[:-3]] = set(top_names(tree)) - set(drawn)
+        for name, tree in trees():
+            for node in imports_of(tree):
+                for alias in node.names:
+                    self.assertIn(alias.name, defined[node.module], name)
+
+    def test_no_two_files_draw_from_one_another(self):
+        draws = {"lastwaltz." + name[:-3]: {node.module for node in imports_of(tree)} for name, tree in trees()}
+        while draws:
+            free = [name for name in draws if not draws[name] & set(draws)]
+            self.assertTrue(free, draws)
+            for name in free:
+                del draws[name]
+
+
+class TestDefs(unittest.TestCase):
+    """L4, L6, L8, L12, L15, L17, L20."""
+
+    def test_plain_parameters(self):
+        for name, tree in trees():
+            for node in ast.walk(tree):
+                if isinstance(node, ast.arguments):
+                    self.assertEqual((node.vararg, node.kwarg, node.posonlyargs), (None, None, []), name)
+                    for default in node.defaults:
+                        self.assertIsInstance(default, PLAIN_VALUES, name)
+
+    def test_only_the_listed_statements(self):
+        for name, tree in trees():
+            for node in ast.walk(tree):
+                if isinstance(node, ast.stmt):
+                    self.assertIsInstance(node, STATEMENTS, (name, node.lineno))
+                if isinstance(node, ast.Expr) and not isinstance(node.value, ast.Constant):
+                    self.assertIsInstance(node.value, ast.Call, (name, node.lineno))
+
+    def test_given_are_names_items_and_values(self):
+        for name, tree in trees():
+            for node in ast.walk(tree):
+                if isinstance(node, (ast.Tuple, ast.List)) and isinstance(node.ctx, ast.Store):
+                    for part in node.elts:
+                        self.assertIsInstance(part, (ast.Name, ast.Tuple, ast.Starred), (name, node.lineno))
+
+    def test_locals_are_called_like_nothing_of_the_top(self):
+        for name, tree in trees():
+            drawn = [alias.name for node in imports_of(tree) for alias in node.names]
+            classes = [node.name for node in tree.body if isinstance(node, ast.ClassDef)]
+            for node in defs_in(tree):
+                self.assertEqual(set(locals_of(node)) & set(drawn + classes), set(), (name, node.name))
+
+    def test_names_that_are_not_used(self):
+        for name, tree in trees():
+            for node in ast.walk(tree):
+                for word in names_in(node):
+                    self.assertNotIn(word, UNUSED_NAMES, name)
+
+    def test_is_stands_beside_none_true_and_false(self):
+        for name, tree in trees():
+            for node in ast.walk(tree):
+                if isinstance(node, ast.Compare) and any(isinstance(sign, (ast.Is, ast.IsNot)) for sign in node.ops):
+                    self.assertIsInstance(node.comparators[-1], ast.Constant, (name, node.lineno))
+                    self.assertIn(node.comparators[-1].value, (None, True, False), (name, node.lineno))
+
+    def test_lambdas_stand_one_on_a_line(self):
+        for name, tree in trees():
+            lines = [node.lineno for node in ast.walk(tree) if isinstance(node, ast.Lambda)]
+            self.assertEqual(sorted(lines), sorted(set(lines)), name)
+
+    def test_raise_makes_its_error_on_the_spot(self):
+        for name, tree in trees():
+            for node in ast.walk(tree):
+                if isinstance(node, ast.Raise) and node.exc is not None:
+                    self.assertIsNotNone(called_name(node.exc), (name, node.lineno))
+
+
+class TestCalls(unittest.TestCase):
+    """L22, L23, L24, L25."""
+
+    def own_methods(self):
+        return {part.name for name, tree in trees() for node in tree.body if isinstance(node, ast.ClassDef)
+                for part in node.body if isinstance(part, ast.FunctionDef)}
+
+    def test_only_the_listed_methods(self):
+        allowed = METHODS | self.own_methods()
+        for name, tree in trees():
+            for node in ast.walk(tree):
+                if called_method(node) is not None:
+                    self.assertIn(called_method(node), allowed, (name, node.lineno))
+
+    def test_no_star_in_a_call(self):
+        for name, tree in trees():
+            for node in ast.walk(tree):
+                if isinstance(node, ast.Call):
+                    self.assertFalse([part for part in node.args if isinstance(part, ast.Starred)], name)
+                    self.assertTrue(all(keyword.arg for keyword in node.keywords), name)
+
+    def test_python_s_own_are_called_and_not_kept(self):
+        own = {word for word in OWN_NAMES if word.islower()}
+        for name, tree in trees():
+            parents = parents_in(tree)
+            for node in ast.walk(tree):
+                if isinstance(node, ast.Name) and node.id in own:
+                    parent = parents[node]
+                    asked = called_name(parent) == "isinstance"
+                    self.assertTrue(called_name(parent) == node.id or asked or isinstance(parent, ast.keyword),
+                                    (name, node.lineno))
+
+    def test_walked_at_once(self):
+        for name, tree in trees():
+            parents = parents_in(tree)
+            for node in ast.walk(tree):
+                if called_name(node) in WALKED or called_method(node) in ("items", "keys", "values"):
+                    parent = parents[node]
+                    walks = isinstance(parent, (ast.For, ast.comprehension)) and parent.iter == node
+                    asked = isinstance(parent, ast.Compare) and isinstance(parent.ops[0], (ast.In, ast.NotIn))
+                    self.assertTrue(walks or asked or called_name(parent) in WALKERS, (name, node.lineno))
+
+    def test_what_is_walked_is_not_changed(self):
+        for name, tree in trees():
+            for loop in ast.walk(tree):
+                if isinstance(loop, ast.For):
+                    walked = {part.id for part in ast.walk(loop.iter) if isinstance(part, ast.Name)}
+                    for row in loop.body:
+                        for node in ast.walk(row):
+                            self.assertFalse(self.changed_by(node) & walked, (name, node))
+
+    def changed_by(self, node):
+        """The names of the things that a node changes in place."""
+        if called_method(node) in CHANGING and isinstance(node.func.value, ast.Name):
+            return {node.func.value.id}
+        if isinstance(node, ast.Subscript) and not isinstance(node.ctx, ast.Load) and isinstance(node.value, ast.Name):
+            return {node.value.id}
+        return set()
+
+    def test_sets_are_kept_as_told(self):
+        for name, tree in trees():
+            parents = parents_in(tree)
+            for node in defs_in(tree):
+                kept = [part.targets[0].id for part in ast.walk(node)
+                        if isinstance(part, ast.Assign) and called_name(part.value) == "set"]
+                self.assertEqual(sorted(kept), sorted(set(kept)), (name, node.name))
+                for part in ast.walk(node):
+                    if isinstance(part, ast.Name) and part.id in kept:
+                        self.assertTrue(self.set_use(part, parents), (name, part.lineno))
+
+    def set_use(self, node, parents):
+        """True where a kept set is given, added to, asked by in, or told by len or sorted."""
+        parent = parents[node]
+        if isinstance(parent, ast.Attribute):
+            return parent.attr in ("add", "discard") and isinstance(parents[parents[parent]], ast.Expr)
+        if isinstance(parent, ast.Compare):
+            return isinstance(parent.ops[0], (ast.In, ast.NotIn)) and parent.comparators == [node]
+        return isinstance(parent, ast.Assign) or called_name(parent) in ("len", "sorted")
+
+    def test_a_set_that_is_not_kept_is_asked_at_once(self):
+        for name, tree in trees():
+            parents = parents_in(tree)
+            for node in ast.walk(tree):
+                if called_name(node) == "set" or isinstance(node, (ast.Set, ast.SetComp)):
+                    parent = parents[node]
+                    asked = isinstance(parent, (ast.Compare, ast.BinOp, ast.Assign))
+                    self.assertTrue(asked or called_name(parent) in ("len", "sorted"), (name, node.lineno))
 
 
 if __name__ == "__main__":
