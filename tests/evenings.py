@@ -8,6 +8,7 @@ import random
 
 from lastwaltz.errors import WaltzError
 from lastwaltz.hall import Hall
+from lastwaltz.homeway import home_row, hub_row, hubless_rings, one_row, stuck_rings, two_row
 
 TOP = 999999999999
 
@@ -189,6 +190,74 @@ def with_newcomers(hall, *numbers):
     for number in numbers:
         twin.come(number)
     return twin
+
+
+def judged(ask, *args):
+    """What is told, or the refusal's class and the guest that it tells."""
+    try:
+        return ask(*args)
+    except WaltzError as refusal:
+        return (type(refusal), getattr(refusal, "guest", None))
+
+
+def strangers(hall, many):
+    """So many numbers that never were in the hall."""
+    return list(itertools.islice(unused(hall, 70), many))
+
+
+def gone_from(hall):
+    """Those who were in the hall once and are not now, rising."""
+    return sorted({deed[1] for deed in hall.story()} - set(hall.guests()))
+
+
+def free_pairs(hall):
+    """The pairs of guests in the hall who never met, the lesser first."""
+    met = met_of(hall)
+    return [pair for pair in itertools.combinations(hall.guests(), 2) if frozenset(pair) not in met]
+
+
+def met_inside(hall):
+    """The pairs of guests in the hall who met, the lesser first."""
+    met = met_of(hall)
+    return [pair for pair in itertools.combinations(hall.guests(), 2) if frozenset(pair) in met]
+
+
+def either_way(chance, pair):
+    return chance.choice((pair, pair[::-1]))
+
+
+def plain_trouble(hall, row):
+    """The first pair that could not be danced, reckoned from the story."""
+    worn, met = masks_of(hall), met_of(hall)
+    for place, pair in enumerate(row):
+        if not set(pair) <= set(worn):
+            return (place, "nobody")
+        if len(set(pair)) == 1:
+            return (place, "same")
+        if frozenset(pair) in met:
+            return (place, "met")
+        met.add(frozenset(pair))
+    return None
+
+
+def plain_sends_home(hall, row):
+    """Whether the row sends everybody home, reckoned from the story."""
+    if plain_trouble(hall, row) is not None:
+        return False
+    worn = masks_of(hall)
+    for one, other in row:
+        worn[one], worn[other] = worn[other], worn[one]
+    return all(worn[guest] == guest for guest in worn)
+
+
+def ways_home(hall, one, other):
+    """Rows that send everybody home from a hall in which these two are newcomers."""
+    rows = [two_row(hall, one, other), home_row(hall, one, other)]
+    if not stuck_rings(hall):
+        rows.append(one_row(hall, one))
+    if not hubless_rings(hall):
+        rows.append(hub_row(hall))
+    return rows
 
 
 class Unchanged:

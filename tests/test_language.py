@@ -45,6 +45,18 @@ UNUSED_NAMES = set("""
 """.split())
 
 
+MODULES = set("errors rows hall rings homeway chase morning looker keeper past".split())
+FILE_NAMES = set("""
+    test tests testing site conftest sitecustomize usercustomize typing typing_extensions enum namedtuple
+    len filter format range sum int property type
+""".split())
+KEYWORDS = {
+    "sorted": {"key", "reverse"}, "min": {"key", "default"}, "max": {"key", "default"}, "sum": {"start"},
+    "enumerate": {"start"}, "zip": {"strict"},
+}
+READING = set("get index count copy".split())
+
+
 def trees():
     return [(path.name, ast.parse(path.read_text(encoding="ascii"))) for path in FILES]
 
@@ -107,7 +119,7 @@ class TestFiles(unittest.TestCase):
 
     def test_all_modules_so_far_are_looked_at(self):
         names = {path.stem for path in FILES}
-        self.assertLessEqual({"errors", "rows", "hall", "rings", "homeway", "chase", "morning"}, names)
+        self.assertLessEqual(MODULES, names)
 
     def test_only_plain_files(self):
         self.assertIn(PACKAGE / "__init__.py", FILES)
@@ -378,6 +390,236 @@ class TestCalls(unittest.TestCase):
                     parent = parents[node]
                     asked = isinstance(parent, (ast.Compare, ast.BinOp, ast.Assign))
                     self.assertTrue(asked or called_name(parent) in ("len", "sorted"), (name, node.lineno))
+
+
+def classes_in_package():
+    """The nodes of all classes by their names."""
+    return {node.name: node for name, tree in trees() for node in tree.body if isinstance(node, ast.ClassDef)}
+
+
+def methods_in(node):
+    return {part.name: part for part in node.body if isinstance(part, ast.FunctionDef)}
+
+
+def error_classes():
+    """The names of the package's own error classes."""
+    found = {"ValueError", "Exception"}
+    for name, node in classes_in_package().items():
+        if node.bases and node.bases[0].id in found:
+            found.add(name)
+    return found - {"ValueError", "Exception"}
+
+
+def sizes_of(node, method=False):
+    """The least and the greatest number of things that a def takes."""
+    takes = len(node.args.args) - (1 if method else 0)
+    return takes - len(node.args.defaults), takes
+
+
+class TestClasses(unittest.TestCase):
+    """L5, L18, L26, L28."""
+
+    def test_only_the_listed_methods_with_two_underscores(self):
+        for name, tree in trees():
+            for node in defs_in(tree):
+                if node.name.startswith("__"):
+                    self.assertIn(node.name, TWO_UNDERSCORES - {"__all__", "__version__"}, name)
+
+    def test_no_method_stands_twice(self):
+        for name, node in classes_in_package().items():
+            names = [part.name for part in node.body if isinstance(part, ast.FunctionDef)]
+            self.assertEqual(sorted(names), sorted(set(names)), name)
+
+    def test_init_gives_back_nothing(self):
+        for name, node in classes_in_package().items():
+            init = methods_in(node).get("__init__")
+            if init is not None:
+                self.assertFalse([part for part in ast.walk(init) if isinstance(part, ast.Return)], name)
+
+    def test_values_that_are_asked_are_given(self):
+        methods = {word for node in classes_in_package().values() for word in methods_in(node)}
+        given = {node.attr for name, tree in trees() for node in ast.walk(tree)
+                 if isinstance(node, ast.Attribute) and isinstance(node.ctx, ast.Store)}
+        for name, tree in trees():
+            parents = parents_in(tree)
+            for node in ast.walk(tree):
+                if isinstance(node, ast.Attribute) and called_method(parents[node]) != node.attr:
+                    self.assertIn(node.attr, given, (name, node.lineno))
+                    self.assertNotIn(node.attr, methods, (name, node.lineno))
+
+    def test_values_and_methods_are_not_called_like_python_s(self):
+        taken = {word for kind in (str, int, list, dict, set, bytes, tuple) for word in dir(kind)}
+        given = {node.attr for name, tree in trees() for node in ast.walk(tree)
+                 if isinstance(node, ast.Attribute) and isinstance(node.ctx, ast.Store)}
+        methods = {word for node in classes_in_package().values() for word in methods_in(node)}
+        self.assertEqual((given | methods - TWO_UNDERSCORES) & taken, set())
+
+    def test_classes_are_called_or_named_by_handlers_alone(self):
+        classes = set(classes_in_package())
+        for name, tree in trees():
+            parents = parents_in(tree)
+            for node in ast.walk(tree):
+                if isinstance(node, ast.Name) and node.id in classes:
+                    parent = parents[node]
+                    if isinstance(parent, ast.Tuple):
+                        parent = parents[parent]
+                    base = isinstance(parent, ast.Attribute) and parent.attr == "__init__"
+                    called = called_name(parent) in (node.id, "isinstance")
+                    self.assertTrue(base or called or isinstance(parent, (ast.ClassDef, ast.ExceptHandler)),
+                                    (name, node.lineno))
+
+
+class TestErrors(unittest.TestCase):
+    """L19."""
+
+    def test_handlers_take_own_errors_by_name(self):
+        own = error_classes() | {"KeyError", "ZeroDivisionError", "StopIteration"}
+        for name, tree in trees():
+            for node in ast.walk(tree):
+                if isinstance(node, ast.ExceptHandler):
+                    self.assertIsNotNone(node.type, (name, node.lineno))
+                    taken = node.type.elts if isinstance(node.type, ast.Tuple) else [node.type]
+                    self.assertTrue(taken, (name, node.lineno))
+                    for part in taken:
+                        self.assertIsInstance(part, ast.Name, (name, node.lineno))
+                        self.assertIn(part.id, own, (name, node.lineno))
+                    self.assertIsNone(node.name, (name, node.lineno))
+
+    def test_own_errors_are_raised(self):
+        for name, tree in trees():
+            for node in ast.walk(tree):
+                if isinstance(node, ast.Raise) and node.exc is not None:
+                    self.assertIn(called_name(node.exc), error_classes(), (name, node.lineno))
+                    self.assertIsNone(node.cause, (name, node.lineno))
+
+    def test_nothing_stands_in_a_finally(self):
+        for name, tree in trees():
+            for node in ast.walk(tree):
+                if isinstance(node, ast.Try):
+                    self.assertEqual(node.finalbody, [], (name, node.lineno))
+
+
+class TestKept(unittest.TestCase):
+    """L3 and L15: what stands at a file's top is plain and is only read."""
+
+    def tops(self, tree):
+        return {node.targets[0].id: node.value for node in tree.body if isinstance(node, ast.Assign)}
+
+    def test_tops_are_plain(self):
+        for name, tree in trees():
+            defs = {node.name for node in tree.body if isinstance(node, ast.FunctionDef)}
+            for word, value in self.tops(tree).items():
+                for part in ast.walk(value):
+                    if part != value:
+                        self.assertNotIsInstance(part, (ast.List, ast.Dict), (name, word))
+                    self.assertNotIsInstance(part, (ast.Call, ast.Set, ast.ListComp, ast.Lambda), (name, word))
+                    if isinstance(part, ast.Name):
+                        self.assertIn(part.id, defs | set(self.tops(tree)), (name, word))
+
+    def test_lists_and_dicts_of_a_top_are_read_on_the_spot(self):
+        held = {word for name, tree in trees() for word, value in self.tops(tree).items()
+                if isinstance(value, (ast.List, ast.Dict))}
+        for name, tree in trees():
+            parents = parents_in(tree)
+            for node in ast.walk(tree):
+                if isinstance(node, ast.Name) and node.id in held and isinstance(node.ctx, ast.Load):
+                    self.assertTrue(self.only_reads(node, parents[node]), (name, node.lineno))
+
+    def only_reads(self, node, parent):
+        if isinstance(parent, ast.Subscript):
+            return parent.value == node and isinstance(parent.ctx, ast.Load)
+        if isinstance(parent, ast.Attribute):
+            return parent.attr in READING
+        if isinstance(parent, (ast.For, ast.comprehension)):
+            return parent.iter == node
+        return isinstance(parent, ast.Compare) or called_name(parent) in ("len", "list", "dict", "sorted", "tuple")
+
+    def test_files_are_called_plainly(self):
+        for path in FILES:
+            self.assertNotIn(path.stem, FILE_NAMES)
+            self.assertFalse(path.stem.startswith(("law_", "test_")), path.name)
+            self.assertEqual(path.parent, PACKAGE)
+
+
+class TestHandedIn(unittest.TestCase):
+    """L4, L22: each call hands in what is taken."""
+
+    def test_keywords_of_python_s_own(self):
+        for name, tree in trees():
+            for node in ast.walk(tree):
+                if isinstance(node, ast.Call) and node.keywords:
+                    words = {keyword.arg for keyword in node.keywords}
+                    self.assertLessEqual(words, KEYWORDS.get(called_name(node), set()), (name, node.lineno))
+
+    def test_own_defs_and_classes_are_handed_what_they_take(self):
+        sizes = {node.name: sizes_of(node) for name, tree in trees() for node in tree.body
+                 if isinstance(node, ast.FunctionDef)}
+        for word, node in classes_in_package().items():
+            init = methods_in(node).get("__init__")
+            if init is not None:
+                sizes[word] = sizes_of(init, method=True)
+            elif word in error_classes():
+                sizes[word] = (1, 1)
+            else:
+                sizes[word] = (0, 0)
+        for name, tree in trees():
+            for node in ast.walk(tree):
+                if called_name(node) in sizes:
+                    least, most = sizes[called_name(node)]
+                    self.assertTrue(least <= len(node.args) <= most, (name, node.lineno))
+
+    def test_own_methods_are_handed_what_they_take(self):
+        sizes = {}
+        for node in classes_in_package().values():
+            for word, part in methods_in(node).items():
+                if word != "__init__":
+                    sizes.setdefault(word, set()).add(sizes_of(part, method=True))
+        for name, tree in trees():
+            for node in ast.walk(tree):
+                if called_method(node) in sizes:
+                    for least, most in sizes[called_method(node)]:
+                        self.assertTrue(least <= len(node.args) <= most, (name, node.lineno))
+
+
+class TestTexts(unittest.TestCase):
+    """L7, L27."""
+
+    def test_f_strings_are_plain(self):
+        for name, tree in trees():
+            for node in ast.walk(tree):
+                if isinstance(node, ast.FormattedValue):
+                    self.assertIsNone(node.format_spec, (name, node.lineno))
+                    for part in ast.walk(node.value):
+                        self.assertFalse(isinstance(part, ast.Constant) and isinstance(part.value, (str, bytes)),
+                                         (name, node.lineno))
+                        self.assertNotIsInstance(part, ast.JoinedStr, (name, node.lineno))
+
+    def test_escapes(self):
+        for path in FILES:
+            for found in re.finditer(r"\\(.)", path.read_text(encoding="ascii"), re.DOTALL):
+                self.assertIn(found.group(1), "nt\\\"'", path.name)
+
+    def test_no_power_and_no_bytes(self):
+        for name, tree in trees():
+            for node in ast.walk(tree):
+                self.assertNotIsInstance(node, ast.Pow, name)
+                self.assertFalse(isinstance(node, ast.Constant) and isinstance(node.value, bytes), name)
+
+    def test_comprehensions_are_small_and_stand_in_a_def(self):
+        for name, tree in trees():
+            within = {part for node in defs_in(tree) for part in ast.walk(node)}
+            for node in ast.walk(tree):
+                if isinstance(node, (ast.ListComp, ast.DictComp, ast.SetComp)):
+                    self.assertIn(node, within, name)
+                    self.assertLessEqual(len(node.generators), 6, name)
+                    self.assertLessEqual(sum(len(part.ifs) for part in node.generators), 12, name)
+
+    def test_no_annotation(self):
+        for name, tree in trees():
+            for node in ast.walk(tree):
+                self.assertNotIsInstance(node, ast.AnnAssign, name)
+                self.assertIsNone(getattr(node, "annotation", None), name)
+                self.assertIsNone(getattr(node, "returns", None), name)
 
 
 if __name__ == "__main__":
