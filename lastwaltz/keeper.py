@@ -1,7 +1,7 @@
 """The keeper: follows a plan that sends everybody home while others dance on."""
 
 from lastwaltz.errors import NoPlan, NoWay
-from lastwaltz.looker import sends_home
+from lastwaltz.looker import hall_behind, sends_home
 
 
 class Keeper:
@@ -78,3 +78,10 @@ class Keeper:
             self.danced += 1
         elif pair is not None:
             self.breaking = self.hall.moment()
+
+    def dance(self, row):
+        """Do all exchanges of the row, or none."""
+        # A row that can't be danced is refused here, while all is still as it was.
+        hall_behind(self.hall, row)
+        for one, other in row:
+            self.exchange(one, other)

@@ -13,16 +13,21 @@ from lastwaltz.homeway import home_row, hub_row, hubless_rings, one_row, stuck_r
 TOP = 999999999999
 
 
+def move_masks(worn, deed):
+    """Do a deed of a story on a dict of worn masks."""
+    if deed[0] == "come":
+        worn[deed[1]] = deed[1]
+    elif deed[0] == "go":
+        del worn[deed[1]]
+    else:
+        worn[deed[1]], worn[deed[2]] = worn[deed[2]], worn[deed[1]]
+
+
 def masks_of(hall):
     """Who wears which mask, from the story."""
     worn = {}
     for deed in hall.story():
-        if deed[0] == "come":
-            worn[deed[1]] = deed[1]
-        elif deed[0] == "go":
-            del worn[deed[1]]
-        else:
-            worn[deed[1]], worn[deed[2]] = worn[deed[2]], worn[deed[1]]
+        move_masks(worn, deed)
     return worn
 
 
@@ -258,6 +263,19 @@ def ways_home(hall, one, other):
     if not hubless_rings(hall):
         rows.append(hub_row(hall))
     return rows
+
+
+def plan_reckoned(plan, since, story):
+    """What became of a plan that was taken at that moment: its state, the pairs left, the moment of its breaking."""
+    if plan is None:
+        return ("none", [], None)
+    left = list(plan)
+    for moment, deed in enumerate(story[since:], since + 1):
+        if left and deed[0] == "exchange" and set(deed[1:]) == set(left[0]):
+            left.pop(0)
+        elif left and (deed[0] == "exchange" or deed[0] == "go" and any(deed[1] in pair for pair in left)):
+            return ("broken", [], moment)
+    return ("standing" if left else "done", left, None)
 
 
 class Unchanged:

@@ -6,7 +6,7 @@ import unittest
 
 from evenings import (
     TOP, drawn_halls, drawn_layout, either_way, free_pairs, hall_of, judged, laid_out, met_inside, plain_sends_home,
-    seen, strangers, ways_home, with_newcomers,
+    plan_reckoned, seen, strangers, ways_home, with_newcomers,
 )
 from lastwaltz.errors import AlreadyIn, Masked, Met, NoGuest, NoPlan, NoWay, Same
 from lastwaltz.hall import Hall
@@ -27,16 +27,7 @@ class Watch:
         self.check()
 
     def reckoned(self):
-        """The state, the pairs left, and the moment of the breaking."""
-        if self.plan is None:
-            return ("none", [], None)
-        left = list(self.plan)
-        for moment, deed in enumerate(self.hall.story()[self.since:], self.since + 1):
-            if left and deed[0] == "exchange" and set(deed[1:]) == set(left[0]):
-                left.pop(0)
-            elif left and (deed[0] == "exchange" or deed[0] == "go" and any(deed[1] in pair for pair in left)):
-                return ("broken", [], moment)
-        return ("standing" if left else "done", left, None)
+        return plan_reckoned(self.plan, self.since, self.hall.story())
 
     def check(self):
         state, left, broken_at = self.reckoned()
@@ -399,7 +390,8 @@ class TestDrawnEvenings(KeeperCase):
         guests = watch.hall.guests() or [0]
         stranger = strangers(watch.hall, 1)[0]
         one = chance.choice(guests)
-        for deed in (("go", stranger), ("exchange", one, stranger), ("exchange", stranger, one), ("exchange", one, one)):
+        for deed in (("go", stranger), ("exchange", one, stranger), ("exchange", stranger, one),
+            ("exchange", one, one)):
             self.assertIsNotNone(watch.deed(*deed))
         for pair in met_inside(watch.hall)[:3]:
             self.assertEqual(watch.deed("exchange", *either_way(chance, pair)), (Met, None))

@@ -45,7 +45,9 @@ UNUSED_NAMES = set("""
 """.split())
 
 
-MODULES = set("errors rows hall rings homeway chase morning looker keeper past".split())
+MODULES = set("""
+    errors rows hall rings homeway chase morning looker keeper past figures letters book desk
+""".split())
 FILE_NAMES = set("""
     test tests testing site conftest sitecustomize usercustomize typing typing_extensions enum namedtuple
     len filter format range sum int property type

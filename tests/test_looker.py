@@ -127,7 +127,8 @@ class TestByHand(LookerCase):
 
     def test_the_first_of_the_two_who_is_not_in(self):
         hall = self.hall()
-        for pair, guest in (((4, 8), 8), ((8, 4), 8), ((8, 7), 8), ((7, 8), 7), ((9, 3), 9), ((10, 9), 10), ((7, 7), 7)):
+        for pair, guest in (((4, 8), 8), ((8, 4), 8), ((8, 7), 8), ((7, 8), 7), ((9, 3), 9), ((10, 9), 10),
+            ((7, 7), 7)):
             self.refused(NoGuest, guest, dance, hall, [(4, 5), pair])
 
     def test_met_on_an_earlier_visit(self):
